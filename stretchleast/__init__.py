@@ -1,0 +1,1 @@
+"""Stretchleast: the least of every stretch of a row."""

@@ -1,0 +1,115 @@
+"""Promise 1: nothing that is handed in is changed or kept; what is told is the asker's own."""
+
+import unittest
+import weakref
+
+from stretchleast.errors import NoStretch
+from stretchleast.reach import greatest_reaches, reaches
+from stretchleast.rows import greatest_of, is_row, least_of, least_place, spread_of
+from tests.helper import long_rows, nested, short_rows
+
+WITH_PLACES = (least_of, greatest_of, spread_of, least_place)
+OF_A_ROW = (is_row, reaches, greatest_reaches)
+
+
+class Kept(list):
+    """A list that can be watched: it is gone once nobody holds it."""
+
+
+def layers(thing):
+    """The layers of a nested thing, from the outside, without going deeper by calls."""
+    found = []
+    while thing is not None:
+        found.append(thing)
+        thing = thing[0]
+    return found
+
+
+class HandedIn(unittest.TestCase):
+    def test_rows_are_as_before(self):
+        for row in [*short_rows(), *long_rows().values()]:
+            before = list(row)
+            for tell in OF_A_ROW:
+                tell(row)
+            for tell in WITH_PLACES:
+                if row:
+                    tell(row, 0, len(row))
+                with self.assertRaises(NoStretch):
+                    tell(row, 1, 0)
+            self.assertEqual(row, before)
+
+    def test_other_things_are_as_before(self):
+        things = ([1, True], [[1], 2], {"a": [1]}, [], (1, [2]))
+        copies = ([1, True], [[1], 2], {"a": [1]}, [], (1, [2]))
+        for thing, copy in zip(things, copies):
+            is_row(thing)
+            for tell in WITH_PLACES:
+                with self.assertRaises(NoStretch):
+                    tell([3, 1, 2], thing, thing)
+            self.assertEqual(thing, copy)
+
+    def test_deep_things_are_as_before(self):
+        for make in (lambda inner: [inner], lambda inner: (inner,)):
+            deep = nested(make)
+            before = layers(deep)
+            is_row(deep)
+            with self.assertRaises(NoStretch):
+                least_of([1, 2], deep, deep)
+            after = layers(deep)
+            self.assertEqual(len(after), len(before))
+            self.assertTrue(all(one is other for one, other in zip(before, after)))
+
+    def test_nothing_is_kept(self):
+        for tell in OF_A_ROW:
+            row = Kept([3, 1, 2])
+            watched = weakref.ref(row)
+            told = tell(row)
+            del row
+            self.assertIsNone(watched(), tell.__name__)
+            del told
+        for tell in WITH_PLACES:
+            row = Kept([3, 1, 2])
+            watched = weakref.ref(row)
+            tell(row, 0, 3)
+            del row
+            self.assertIsNone(watched(), tell.__name__)
+
+
+class Told(unittest.TestCase):
+    def test_each_told_list_is_a_new_one(self):
+        row = [3, 1, 2]
+        for tell in (reaches, greatest_reaches):
+            one, other = tell(row), tell(row)
+            self.assertEqual(one, other)
+            self.assertIsNot(one, other)
+            self.assertIsNot(one, row)
+        self.assertIsNot(reaches([]), reaches([]))
+        self.assertIsNot(greatest_reaches([]), greatest_reaches([]))
+
+    def test_what_the_asker_does_to_a_told_list_changes_nothing(self):
+        for row in ([], [4], [3, 1, 2, 1], [7, 7]):
+            for tell in (reaches, greatest_reaches):
+                told = tell(row)
+                before = list(told)
+                told.append("more")
+                told.reverse()
+                self.assertEqual(tell(row), before)
+                told.clear()
+                self.assertEqual(tell(row), before)
+
+    def test_a_row_that_is_changed_behind_the_call(self):
+        row = [3, 1, 2]
+        told, greatest_told = reaches(row), greatest_reaches(row)
+        row[0] = 0
+        row.append(-9)
+        self.assertEqual(told, [(0, 1), (0, 3), (2, 3)])
+        self.assertEqual(greatest_told, [(0, 3), (1, 2), (1, 3)])
+        # What is asked anew is told of the row as it now is.
+        self.assertEqual(reaches(row), [(0, 3), (1, 3), (2, 3), (0, 4)])
+        self.assertEqual(greatest_reaches(row), [(0, 1), (0, 2), (0, 4), (3, 4)])
+        self.assertEqual([tell(row, 0, 4) for tell in WITH_PLACES], [-9, 2, 11, 3])
+        self.assertIs(is_row(row), True)
+        row.append(True)
+        self.assertIs(is_row(row), False)
+        # A copy that was told of earlier is told of as it was.
+        self.assertEqual(reaches([3, 1, 2]), told)
