@@ -20,3 +20,8 @@ def greatest_reaches(row):
     """The reaches of all places for the greatest, as a list of tuples (begin, end)."""
     # The greatest of a row stand where the leasts of its negatives do, like ones included.
     return reaches([-number for number in row])
+
+
+def many_held(row):
+    """For each place how many stretches within its reach hold it: those whose least stands first there."""
+    return [(place - begin + 1) * (end - place) for place, (begin, end) in enumerate(reaches(row))]

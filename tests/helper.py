@@ -1,6 +1,8 @@
-"""What the tests share: rows to try, things of every kind, and searches number by number."""
+"""What the tests share: rows to try, things of every kind, searches number by number, and what is no stretch."""
 
 from itertools import product
+
+from stretchleast.errors import NoStretch
 
 DEEP = 50000
 
@@ -36,6 +38,7 @@ def long_rows():
     return {
         "far apart": chance_row(1, 300, -10 ** 12, 10 ** 12),
         "few unlike": chance_row(2, 300, -2, 2),
+        "below nought": chance_row(3, 300, -10 ** 12, -1),
         "alike": [7] * 300,
         "rising": list(range(-150, 150)),
         "falling": list(range(150, -150, -1)),
@@ -105,3 +108,93 @@ def searched(row):
                 greatest_at = place
             found[begin, place + 1] = (row[least_at], row[greatest_at], least_at, greatest_at)
     return found
+
+
+def walked_sums(row):
+    """For each part (begin, end) the sums of leasts and of greatests of all stretches within it, added one by one."""
+    found = searched(row)
+    sums = {(place, place): (0, 0) for place in range(len(row) + 1)}
+    for begin in reversed(range(len(row))):
+        # What is within a part begins where the part does, or lies within the part that is shorter by this number.
+        leasts = greatests = 0
+        for end in range(begin + 1, len(row) + 1):
+            leasts += found[begin, end][0]
+            greatests += found[begin, end][1]
+            shorter = sums[begin + 1, end]
+            sums[begin, end] = (shorter[0] + leasts, shorter[1] + greatests)
+    return sums
+
+
+def ordered(row):
+    """All stretches of a row as (least, begin, end), in the order of promise 13."""
+    return sorted((found[0], begin, end) for (begin, end), found in searched(row).items())
+
+
+class RefusesNoStretch:
+    """Promise 4 for all of the tellers, functions of a row, a begin and an end; to be mixed into a TestCase."""
+
+    tellers = ()
+
+    def refused(self, row, begin, end):
+        for tell in self.tellers:
+            with self.assertRaises(NoStretch) as caught:
+                tell(row, begin, end)
+            self.assertIs(type(caught.exception), NoStretch)
+            self.assertIsInstance(str(caught.exception), str)
+
+    def test_places_beyond_the_row(self):
+        for many in range(5):
+            row = list(range(many))
+            good = set(stretches(row))
+            for begin in range(-7, 8):
+                for end in range(-7, 8):
+                    if (begin, end) not in good:
+                        with self.subTest(many=many, begin=begin, end=end):
+                            self.refused(row, begin, end)
+
+    def test_places_far_beyond(self):
+        # 10 ** 6000 has more figures than Python writes out.
+        for far in (10 ** 6000, -10 ** 6000, 10 ** 30, -10 ** 30):
+            self.refused([1, 2, 3], far, 2)
+            self.refused([1, 2, 3], 0, far)
+            self.refused([1, 2, 3], far, far)
+
+    def test_row_of_none(self):
+        for begin, end in ((0, 0), (0, 1), (-1, 0), (None, None)):
+            with self.subTest(begin=begin, end=end):
+                self.refused([], begin, end)
+
+    def test_row_of_300(self):
+        row = list(range(300))
+        for begin, end in ((0, 301), (300, 300), (300, 301), (299, 299), (-1, 300), (299, 1)):
+            with self.subTest(begin=begin, end=end):
+                self.refused(row, begin, end)
+
+    def test_things_of_every_kind(self):
+        row = [3, 1, 2]
+        for name, wrong in no_whole_numbers().items():
+            with self.subTest(name):
+                self.refused(row, wrong, 2)
+                self.refused(row, 0, wrong)
+                self.refused(row, wrong, wrong)
+                # Beside a number that is no place either.
+                self.refused(row, wrong, 9)
+                self.refused(row, -1, wrong)
+                self.refused([], wrong, wrong)
+
+    def test_unlike_wrong_things(self):
+        wrongs = no_whole_numbers()
+        for one in wrongs.values():
+            for other in wrongs.values():
+                self.refused([3, 1, 2], one, other)
+
+    def test_truths_are_no_places(self):
+        self.refused([3, 1, 2], False, True)
+        self.refused([3, 1, 2], False, 2)
+        self.refused([3, 1, 2], 0, True)
+
+    def test_deep_things_are_left_as_they_are(self):
+        for name, deep in deep_things().items():
+            with self.subTest(name):
+                self.refused([3, 1, 2], deep, deep)
+                self.assertEqual(len(deep), 1)

@@ -3,13 +3,22 @@
 import unittest
 import weakref
 
-from stretchleast.errors import NoStretch
+from stretchleast.counted import by_leasts, many_from, many_to, many_with
+from stretchleast.errors import NoPlace, NoStretch
+from stretchleast.manieth import place_of, stretch_at
+from stretchleast.parts import Ready
 from stretchleast.reach import greatest_reaches, reaches
 from stretchleast.rows import greatest_of, is_row, least_of, least_place, spread_of
+from stretchleast.sums import sum_of_greatests, sum_of_leasts, sum_of_spreads
 from tests.helper import long_rows, nested, short_rows
 
-WITH_PLACES = (least_of, greatest_of, spread_of, least_place)
-OF_A_ROW = (is_row, reaches, greatest_reaches)
+OF_A_STRETCH = (least_of, greatest_of, spread_of, least_place)
+READY = ("leasts", "greatests", "spreads", "least", "greatest", "first_least")
+WITH_PLACES = (*OF_A_STRETCH, place_of,
+               *(lambda row, begin, end, name=name: getattr(Ready(row), name)(begin, end) for name in READY))
+LISTS = (reaches, greatest_reaches, by_leasts)
+OF_A_ROW = (is_row, *LISTS, sum_of_leasts, sum_of_greatests, sum_of_spreads, Ready)
+WITH_A_NUMBER = (many_with, many_from, many_to)
 
 
 class Kept(list):
@@ -36,6 +45,12 @@ class HandedIn(unittest.TestCase):
                     tell(row, 0, len(row))
                 with self.assertRaises(NoStretch):
                     tell(row, 1, 0)
+            for tell in WITH_A_NUMBER:
+                tell(row, 2)
+            if row:
+                stretch_at(row, len(row) - 1)
+            with self.assertRaises(NoPlace):
+                stretch_at(row, -1)
             self.assertEqual(row, before)
 
     def test_other_things_are_as_before(self):
@@ -46,6 +61,8 @@ class HandedIn(unittest.TestCase):
             for tell in WITH_PLACES:
                 with self.assertRaises(NoStretch):
                     tell([3, 1, 2], thing, thing)
+            with self.assertRaises(NoPlace):
+                stretch_at([3, 1, 2], thing)
             self.assertEqual(thing, copy)
 
     def test_deep_things_are_as_before(self):
@@ -53,42 +70,42 @@ class HandedIn(unittest.TestCase):
             deep = nested(make)
             before = layers(deep)
             is_row(deep)
-            with self.assertRaises(NoStretch):
-                least_of([1, 2], deep, deep)
+            for tell in WITH_PLACES:
+                with self.assertRaises(NoStretch):
+                    tell([1, 2], deep, deep)
+            with self.assertRaises(NoPlace):
+                stretch_at([1, 2], deep)
             after = layers(deep)
             self.assertEqual(len(after), len(before))
             self.assertTrue(all(one is other for one, other in zip(before, after)))
 
     def test_nothing_is_kept(self):
-        for tell in OF_A_ROW:
+        calls = [(tell, ()) for tell in OF_A_ROW]
+        calls += [(tell, (0, 3)) for tell in WITH_PLACES]
+        calls += [(tell, (2,)) for tell in (*WITH_A_NUMBER, stretch_at)]
+        for tell, more in calls:
             row = Kept([3, 1, 2])
             watched = weakref.ref(row)
-            told = tell(row)
+            told = tell(row, *more)
             del row
             self.assertIsNone(watched(), tell.__name__)
+            # What is told was alive until here, a row made ready too.
             del told
-        for tell in WITH_PLACES:
-            row = Kept([3, 1, 2])
-            watched = weakref.ref(row)
-            tell(row, 0, 3)
-            del row
-            self.assertIsNone(watched(), tell.__name__)
 
 
 class Told(unittest.TestCase):
     def test_each_told_list_is_a_new_one(self):
         row = [3, 1, 2]
-        for tell in (reaches, greatest_reaches):
+        for tell in LISTS:
             one, other = tell(row), tell(row)
             self.assertEqual(one, other)
             self.assertIsNot(one, other)
             self.assertIsNot(one, row)
-        self.assertIsNot(reaches([]), reaches([]))
-        self.assertIsNot(greatest_reaches([]), greatest_reaches([]))
+            self.assertIsNot(tell([]), tell([]))
 
     def test_what_the_asker_does_to_a_told_list_changes_nothing(self):
         for row in ([], [4], [3, 1, 2, 1], [7, 7]):
-            for tell in (reaches, greatest_reaches):
+            for tell in LISTS:
                 told = tell(row)
                 before = list(told)
                 told.append("more")
@@ -99,15 +116,20 @@ class Told(unittest.TestCase):
 
     def test_a_row_that_is_changed_behind_the_call(self):
         row = [3, 1, 2]
-        told, greatest_told = reaches(row), greatest_reaches(row)
+        told, greatest_told, counted = reaches(row), greatest_reaches(row), by_leasts(row)
         row[0] = 0
         row.append(-9)
         self.assertEqual(told, [(0, 1), (0, 3), (2, 3)])
         self.assertEqual(greatest_told, [(0, 3), (1, 2), (1, 3)])
+        self.assertEqual(counted, [(1, 4), (2, 1), (3, 1)])
         # What is asked anew is told of the row as it now is.
         self.assertEqual(reaches(row), [(0, 3), (1, 3), (2, 3), (0, 4)])
         self.assertEqual(greatest_reaches(row), [(0, 1), (0, 2), (0, 4), (3, 4)])
-        self.assertEqual([tell(row, 0, 4) for tell in WITH_PLACES], [-9, 2, 11, 3])
+        self.assertEqual([tell(row, 0, 4) for tell in OF_A_STRETCH], [-9, 2, 11, 3])
+        self.assertEqual(by_leasts(row), [(-9, 4), (0, 3), (1, 2), (2, 1)])
+        self.assertEqual([sum_of_leasts(row), sum_of_greatests(row), sum_of_spreads(row)], [-32, 5, 37])
+        self.assertEqual([tell(row, 0) for tell in WITH_A_NUMBER], [3, 6, 7])
+        self.assertEqual([stretch_at(row, 0), place_of(row, 0, 1)], [(-9, 0, 4), 4])
         self.assertIs(is_row(row), True)
         row.append(True)
         self.assertIs(is_row(row), False)

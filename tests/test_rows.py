@@ -3,9 +3,8 @@
 import inspect
 import unittest
 
-from stretchleast.errors import NoStretch
 from stretchleast.rows import greatest_of, is_row, least_of, least_place, spread_of
-from tests.helper import deep_things, long_rows, no_whole_numbers, searched, short_rows, stretches
+from tests.helper import RefusesNoStretch, long_rows, no_whole_numbers, searched, short_rows
 
 TELLERS = (least_of, greatest_of, spread_of, least_place)
 
@@ -97,67 +96,5 @@ class Stretches(unittest.TestCase):
         self.assertEqual([tell(row, 0, 3) for tell in TELLERS], [-10 ** 12, 10 ** 12, 2 * 10 ** 12, 2])
 
 
-class Refusals(unittest.TestCase):
-    def refused(self, row, begin, end):
-        for tell in TELLERS:
-            with self.assertRaises(NoStretch) as caught:
-                tell(row, begin, end)
-            self.assertIs(type(caught.exception), NoStretch)
-            self.assertIsInstance(str(caught.exception), str)
-
-    def test_places_beyond_the_row(self):
-        for many in range(5):
-            row = list(range(many))
-            good = set(stretches(row))
-            for begin in range(-7, 8):
-                for end in range(-7, 8):
-                    if (begin, end) not in good:
-                        with self.subTest(many=many, begin=begin, end=end):
-                            self.refused(row, begin, end)
-
-    def test_places_far_beyond(self):
-        # 10 ** 6000 has more figures than Python writes out.
-        for far in (10 ** 6000, -10 ** 6000, 10 ** 30, -10 ** 30):
-            self.refused([1, 2, 3], far, 2)
-            self.refused([1, 2, 3], 0, far)
-            self.refused([1, 2, 3], far, far)
-
-    def test_row_of_none(self):
-        for begin, end in ((0, 0), (0, 1), (-1, 0), (None, None)):
-            with self.subTest(begin=begin, end=end):
-                self.refused([], begin, end)
-
-    def test_row_of_300(self):
-        row = list(range(300))
-        for begin, end in ((0, 301), (300, 300), (300, 301), (299, 299), (-1, 300), (299, 1)):
-            with self.subTest(begin=begin, end=end):
-                self.refused(row, begin, end)
-
-    def test_things_of_every_kind(self):
-        row = [3, 1, 2]
-        for name, wrong in no_whole_numbers().items():
-            with self.subTest(name):
-                self.refused(row, wrong, 2)
-                self.refused(row, 0, wrong)
-                self.refused(row, wrong, wrong)
-                # Beside a number that is no place either.
-                self.refused(row, wrong, 9)
-                self.refused(row, -1, wrong)
-                self.refused([], wrong, wrong)
-
-    def test_unlike_wrong_things(self):
-        wrongs = no_whole_numbers()
-        for one in wrongs.values():
-            for other in wrongs.values():
-                self.refused([3, 1, 2], one, other)
-
-    def test_truths_are_no_places(self):
-        self.refused([3, 1, 2], False, True)
-        self.refused([3, 1, 2], False, 2)
-        self.refused([3, 1, 2], 0, True)
-
-    def test_deep_things_are_left_as_they_are(self):
-        for name, deep in deep_things().items():
-            with self.subTest(name):
-                self.refused([3, 1, 2], deep, deep)
-                self.assertEqual(len(deep), 1)
+class Refusals(RefusesNoStretch, unittest.TestCase):
+    tellers = TELLERS

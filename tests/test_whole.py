@@ -1,0 +1,82 @@
+"""Promise 2: sums, parts, counts and places tell the same of a row."""
+
+import unittest
+
+from stretchleast.counted import by_leasts, many_from, many_to, many_with
+from stretchleast.manieth import place_of, stretch_at
+from stretchleast.parts import Ready
+from stretchleast.reach import reaches
+from stretchleast.rows import greatest_of, least_of, least_place, spread_of
+from stretchleast.sums import sum_of_greatests, sum_of_leasts, sum_of_spreads
+from tests.helper import long_rows, short_rows, stretches
+
+
+class Whole(unittest.TestCase):
+    def rows(self):
+        return [*short_rows(), *long_rows().values()]
+
+    def test_sums_are_those_of_the_whole_part(self):
+        for row in self.rows():
+            if row:
+                ready = Ready(row)
+                whole = (0, len(row))
+                self.assertEqual(sum_of_leasts(row), ready.leasts(*whole))
+                self.assertEqual(sum_of_greatests(row), ready.greatests(*whole))
+                self.assertEqual(sum_of_spreads(row), ready.spreads(*whole))
+
+    def test_sums_of_a_part_are_those_of_a_row_of_its_numbers(self):
+        for row in short_rows():
+            ready = Ready(row)
+            for begin, end in stretches(row):
+                self.assertEqual(ready.leasts(begin, end), sum_of_leasts(row[begin:end]))
+                self.assertEqual(ready.greatests(begin, end), sum_of_greatests(row[begin:end]))
+                self.assertEqual(ready.spreads(begin, end), sum_of_spreads(row[begin:end]))
+
+    def test_parts_are_told_as_stretches_are(self):
+        for row in short_rows():
+            ready = Ready(row)
+            for begin, end in stretches(row):
+                self.assertEqual(ready.least(begin, end), least_of(row, begin, end))
+                self.assertEqual(ready.greatest(begin, end), greatest_of(row, begin, end))
+                self.assertEqual(ready.first_least(begin, end), least_place(row, begin, end))
+
+    def test_sums_of_single_stretches(self):
+        for row in short_rows():
+            every = list(stretches(row))
+            self.assertEqual(sum_of_leasts(row), sum(least_of(row, *stretch) for stretch in every))
+            self.assertEqual(sum_of_greatests(row), sum(greatest_of(row, *stretch) for stretch in every))
+            self.assertEqual(sum_of_spreads(row), sum(spread_of(row, *stretch) for stretch in every))
+
+    def test_counts_add_up(self):
+        for row in self.rows():
+            counts = by_leasts(row)
+            every = len(row) * (len(row) + 1) // 2
+            self.assertEqual(sum(many for _, many in counts), every)
+            self.assertEqual(sum(least * many for least, many in counts), sum_of_leasts(row))
+            for least, many in counts[:5] + counts[-5:]:
+                self.assertEqual(many_with(row, least), many)
+                self.assertEqual(many_from(row, least) + many_to(row, least), every + many)
+
+    def test_reaches_add_up(self):
+        for row in self.rows():
+            shown = sum(row[place] * (place - begin + 1) * (end - place)
+                        for place, (begin, end) in enumerate(reaches(row)))
+            self.assertEqual(shown, sum_of_leasts(row))
+
+    def test_places_begin_where_the_lesser_leasts_end(self):
+        for row in self.rows():
+            at = 0
+            for least, many in by_leasts(row)[:20]:
+                self.assertEqual(many_to(row, least - 1), at)
+                self.assertEqual(stretch_at(row, at)[0], least)
+                self.assertEqual(stretch_at(row, at + many - 1)[0], least)
+                at += many
+
+    def test_places_tell_all_stretches(self):
+        for row in short_rows():
+            every = list(stretches(row))
+            told = [stretch_at(row, place) for place in range(len(every))]
+            self.assertEqual(sum(least for least, _, _ in told), sum_of_leasts(row))
+            self.assertEqual(sorted((begin, end) for _, begin, end in told), every)
+            self.assertTrue(all(least_of(row, begin, end) == least for least, begin, end in told))
+            self.assertEqual(sorted(place_of(row, *stretch) for stretch in every), list(range(len(every))))
