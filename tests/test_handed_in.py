@@ -9,16 +9,21 @@ from stretchleast.manieth import place_of, stretch_at
 from stretchleast.parts import Ready
 from stretchleast.reach import greatest_reaches, reaches
 from stretchleast.rows import greatest_of, is_row, least_of, least_place, spread_of
+from stretchleast.spreads import longest_within, many_within
 from stretchleast.sums import sum_of_greatests, sum_of_leasts, sum_of_spreads
+from stretchleast.trees import is_tree_of, lowest_above, tree_of
+from stretchleast.worth import most_worth, worth_of
 from tests.helper import long_rows, nested, short_rows
 
 OF_A_STRETCH = (least_of, greatest_of, spread_of, least_place)
 READY = ("leasts", "greatests", "spreads", "least", "greatest", "first_least")
-WITH_PLACES = (*OF_A_STRETCH, place_of,
+WITH_PLACES = (*OF_A_STRETCH, place_of, worth_of,
                *(lambda row, begin, end, name=name: getattr(Ready(row), name)(begin, end) for name in READY))
-LISTS = (reaches, greatest_reaches, by_leasts)
-OF_A_ROW = (is_row, *LISTS, sum_of_leasts, sum_of_greatests, sum_of_spreads, Ready)
-WITH_A_NUMBER = (many_with, many_from, many_to)
+LISTS = (reaches, greatest_reaches, by_leasts, tree_of)
+OF_A_ROW = (is_row, *LISTS, sum_of_leasts, sum_of_greatests, sum_of_spreads, Ready, most_worth)
+WITH_A_NUMBER = (many_with, many_from, many_to, many_within, longest_within)
+# Told of a row and of anything.
+WITH_A_THING = (is_tree_of,)
 
 
 class Kept(list):
@@ -51,7 +56,20 @@ class HandedIn(unittest.TestCase):
                 stretch_at(row, len(row) - 1)
             with self.assertRaises(NoPlace):
                 stretch_at(row, -1)
+            for tell in WITH_A_THING:
+                tell(row, row)
+                tell(row, [])
             self.assertEqual(row, before)
+
+    def test_told_things_that_are_handed_on_are_as_before(self):
+        for row in [*short_rows(), *long_rows().values()]:
+            tree = tree_of(row)
+            before = list(tree)
+            is_tree_of(row, tree)
+            is_tree_of([*row, 1], tree)
+            if row:
+                lowest_above(tree, 0, len(row) - 1)
+            self.assertEqual(tree, before)
 
     def test_other_things_are_as_before(self):
         things = ([1, True], [[1], 2], {"a": [1]}, [], (1, [2]))
@@ -63,6 +81,8 @@ class HandedIn(unittest.TestCase):
                     tell([3, 1, 2], thing, thing)
             with self.assertRaises(NoPlace):
                 stretch_at([3, 1, 2], thing)
+            for tell in WITH_A_THING:
+                tell([3, 1], thing)
             self.assertEqual(thing, copy)
 
     def test_deep_things_are_as_before(self):
@@ -75,6 +95,9 @@ class HandedIn(unittest.TestCase):
                     tell([1, 2], deep, deep)
             with self.assertRaises(NoPlace):
                 stretch_at([1, 2], deep)
+            for tell in WITH_A_THING:
+                tell([1], deep)
+                tell([1, 2], [deep, deep])
             after = layers(deep)
             self.assertEqual(len(after), len(before))
             self.assertTrue(all(one is other for one, other in zip(before, after)))
@@ -83,6 +106,7 @@ class HandedIn(unittest.TestCase):
         calls = [(tell, ()) for tell in OF_A_ROW]
         calls += [(tell, (0, 3)) for tell in WITH_PLACES]
         calls += [(tell, (2,)) for tell in (*WITH_A_NUMBER, stretch_at)]
+        calls += [(tell, ([1, None, 1],)) for tell in WITH_A_THING]
         for tell, more in calls:
             row = Kept([3, 1, 2])
             watched = weakref.ref(row)
@@ -91,6 +115,16 @@ class HandedIn(unittest.TestCase):
             self.assertIsNone(watched(), tell.__name__)
             # What is told was alive until here, a row made ready too.
             del told
+
+    def test_no_thing_is_kept(self):
+        calls = [lambda thing, tell=tell: tell([3, 1, 2], thing) for tell in WITH_A_THING]
+        calls.append(lambda tree: lowest_above(tree, 0, 2))
+        for call in calls:
+            thing = Kept([1, None, 1])
+            watched = weakref.ref(thing)
+            call(thing)
+            del thing
+            self.assertIsNone(watched())
 
 
 class Told(unittest.TestCase):
@@ -116,20 +150,23 @@ class Told(unittest.TestCase):
 
     def test_a_row_that_is_changed_behind_the_call(self):
         row = [3, 1, 2]
-        told, greatest_told, counted = reaches(row), greatest_reaches(row), by_leasts(row)
+        told, greatest_told, counted, tree = [tell(row) for tell in LISTS]
         row[0] = 0
         row.append(-9)
         self.assertEqual(told, [(0, 1), (0, 3), (2, 3)])
         self.assertEqual(greatest_told, [(0, 3), (1, 2), (1, 3)])
         self.assertEqual(counted, [(1, 4), (2, 1), (3, 1)])
+        self.assertEqual(tree, [1, None, 1])
         # What is asked anew is told of the row as it now is.
         self.assertEqual(reaches(row), [(0, 3), (1, 3), (2, 3), (0, 4)])
         self.assertEqual(greatest_reaches(row), [(0, 1), (0, 2), (0, 4), (3, 4)])
         self.assertEqual([tell(row, 0, 4) for tell in OF_A_STRETCH], [-9, 2, 11, 3])
         self.assertEqual(by_leasts(row), [(-9, 4), (0, 3), (1, 2), (2, 1)])
         self.assertEqual([sum_of_leasts(row), sum_of_greatests(row), sum_of_spreads(row)], [-32, 5, 37])
-        self.assertEqual([tell(row, 0) for tell in WITH_A_NUMBER], [3, 6, 7])
+        self.assertEqual([tell(row, 0) for tell in WITH_A_NUMBER], [3, 6, 7, 4, (0, 1)])
         self.assertEqual([stretch_at(row, 0), place_of(row, 0, 1)], [(-9, 0, 4), 4])
+        self.assertEqual([tree_of(row), is_tree_of(row, [1, None, 1])], [[3, 0, 1, None], False])
+        self.assertEqual([most_worth(row), worth_of(row, 0, 4)], [(2, 1, 3), -36])
         self.assertIs(is_row(row), True)
         row.append(True)
         self.assertIs(is_row(row), False)

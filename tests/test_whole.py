@@ -1,4 +1,4 @@
-"""Promise 2: sums, parts, counts and places tell the same of a row."""
+"""Promise 2: sums, parts, counts, places, small spreads, worths and trees tell the same of a row."""
 
 import unittest
 
@@ -7,7 +7,10 @@ from stretchleast.manieth import place_of, stretch_at
 from stretchleast.parts import Ready
 from stretchleast.reach import reaches
 from stretchleast.rows import greatest_of, least_of, least_place, spread_of
+from stretchleast.spreads import longest_within, many_within
 from stretchleast.sums import sum_of_greatests, sum_of_leasts, sum_of_spreads
+from stretchleast.trees import lowest_above, tree_of
+from stretchleast.worth import most_worth, worth_of
 from tests.helper import long_rows, short_rows, stretches
 
 
@@ -80,3 +83,52 @@ class Whole(unittest.TestCase):
             self.assertEqual(sorted((begin, end) for _, begin, end in told), every)
             self.assertTrue(all(least_of(row, begin, end) == least for least, begin, end in told))
             self.assertEqual(sorted(place_of(row, *stretch) for stretch in every), list(range(len(every))))
+
+    def test_small_spreads_add_up(self):
+        for row in short_rows():
+            spreads = sorted({spread_of(row, *stretch) for stretch in stretches(row)})
+            many, total = 0, 0
+            for spread in spreads:
+                more = many_within(row, spread) - many
+                many, total = many + more, total + more * spread
+                self.assertLessEqual(spread_of(row, *longest_within(row, spread)), spread)
+            self.assertEqual(total, sum_of_spreads(row))
+            self.assertEqual(many, len(row) * (len(row) + 1) // 2)
+
+    def test_the_greatest_spread_takes_in_all_stretches(self):
+        for row in self.rows():
+            if row:
+                widest = spread_of(row, 0, len(row))
+                self.assertEqual(many_within(row, widest), many_from(row, min(row)))
+                self.assertEqual(longest_within(row, widest), (0, len(row)))
+
+    def test_no_stretch_is_worth_more_than_the_most(self):
+        for row in short_rows():
+            if row:
+                worth, begin, end = most_worth(row)
+                self.assertEqual(worth_of(row, begin, end), worth)
+                self.assertEqual(max(worth_of(row, *stretch) for stretch in stretches(row)), worth)
+            for begin, end in stretches(row):
+                self.assertEqual(worth_of(row, begin, end), Ready(row).least(begin, end) * (end - begin))
+
+    def test_the_tree_tells_the_leasts_of_all_stretches(self):
+        for row in short_rows():
+            tree, ready = tree_of(row), Ready(row)
+            places = [lowest_above(tree, begin, end - 1) for begin, end in stretches(row)]
+            self.assertEqual(places, [least_place(row, *stretch) for stretch in stretches(row)])
+            self.assertEqual(places, [ready.first_least(*stretch) for stretch in stretches(row)])
+            self.assertEqual(sum(row[place] for place in places), sum_of_leasts(row))
+            for least, many in by_leasts(row):
+                self.assertEqual(sum(row[place] == least for place in places), many)
+
+    def test_the_reaches_are_what_stands_below_in_the_tree(self):
+        for row in self.rows():
+            tree = tree_of(row)
+            begins, ends = list(range(len(row))), list(range(1, len(row) + 1))
+            for place in range(len(row)):
+                above = tree[place]
+                while above is not None:
+                    begins[above] = min(begins[above], place)
+                    ends[above] = max(ends[above], place + 1)
+                    above = tree[above]
+            self.assertEqual(list(zip(begins, ends)), reaches(row))
