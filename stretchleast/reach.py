@@ -22,6 +22,11 @@ def greatest_reaches(row):
     return reaches([-number for number in row])
 
 
+def held_within(spans):
+    """For each place, of its own (begin, end) among the spans, how many stretches within it hold the place."""
+    return [(place - begin + 1) * (end - place) for place, (begin, end) in enumerate(spans)]
+
+
 def many_held(row):
     """For each place how many stretches within its reach hold it: those whose least stands first there."""
-    return [(place - begin + 1) * (end - place) for place, (begin, end) in enumerate(reaches(row))]
+    return held_within(reaches(row))

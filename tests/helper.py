@@ -1,4 +1,4 @@
-"""What the tests share: rows to try, things of every kind, searches number by number, and what is no stretch."""
+"""What the tests share: rows to try, things of every kind, searches number by number, and tests to mix in."""
 
 from itertools import product
 
@@ -125,9 +125,44 @@ def walked_sums(row):
     return sums
 
 
+def walked_totals(row):
+    """The sums of leasts and of greatests over all stretches, then over those that end at the last number."""
+    leasts = greatests = last_leasts = last_greatests = 0
+    for (_, end), (least, greatest, _, _) in searched(row).items():
+        leasts += least
+        greatests += greatest
+        if end == len(row):
+            last_leasts += least
+            last_greatests += greatest
+    return leasts, greatests, last_leasts, last_greatests
+
+
 def ordered(row):
     """All stretches of a row as (least, begin, end), in the order of promise 13."""
     return sorted((found[0], begin, end) for (begin, end), found in searched(row).items())
+
+
+class ChecksRows:
+    """Rows of every kind for the check of a test; to be mixed into a TestCase that has a check(row)."""
+
+    def test_short_rows(self):
+        for row in short_rows():
+            self.check(row)
+
+    def test_rows_of_every_length(self):
+        for many in range(0, 301, 12):
+            for reach in (1, 20, 10 ** 12):
+                self.check(chance_row(many + reach, many, -reach, reach))
+
+    def test_rows_of_300(self):
+        for name, row in long_rows().items():
+            with self.subTest(name):
+                self.check(row)
+
+    def test_somewhat_beyond_the_limits(self):
+        self.check(chance_row(5, 500, -10 ** 15, 10 ** 15))
+        self.check(list(range(500)))
+        self.check(list(range(500, 0, -1)))
 
 
 class RefusesNoStretch:

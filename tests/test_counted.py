@@ -4,7 +4,7 @@ import inspect
 import unittest
 
 from stretchleast.counted import by_leasts, many_from, many_to, many_with
-from tests.helper import chance_row, long_rows, searched, short_rows
+from tests.helper import ChecksRows, chance_row, long_rows, searched, short_rows
 
 COUNTERS = (many_with, many_from, many_to)
 
@@ -29,7 +29,7 @@ class Interface(unittest.TestCase):
             self.assertEqual(list(inspect.signature(count).parameters), ["row", "number"])
 
 
-class ByLeasts(unittest.TestCase):
+class ByLeasts(ChecksRows, unittest.TestCase):
     def check(self, row):
         counts = {}
         for least in leasts_of(row):
@@ -53,18 +53,6 @@ class ByLeasts(unittest.TestCase):
         self.assertEqual(by_leasts([5, 2, 8, 2]), [(2, 8), (5, 1), (8, 1)])
         self.assertEqual(by_leasts([4, 4, 4]), [(4, 6)])
         self.assertEqual(by_leasts([-1, -2]), [(-2, 2), (-1, 1)])
-
-    def test_short_rows_by_a_walk(self):
-        for row in short_rows():
-            self.check(row)
-
-    def test_rows_of_300_by_a_walk(self):
-        for name, row in long_rows().items():
-            with self.subTest(name):
-                self.check(row)
-
-    def test_somewhat_beyond_the_limits(self):
-        self.check(chance_row(6, 500, -10 ** 15, 10 ** 15))
 
     def test_the_told_list_is_changed_and_asked_again(self):
         for row in ([], [4], [3, 1, 2], [7, 7, 7], chance_row(8, 40, -3, 3)):

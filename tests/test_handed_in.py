@@ -4,8 +4,12 @@ import unittest
 import weakref
 
 from stretchleast.counted import by_leasts, many_from, many_to, many_with
-from stretchleast.errors import NoPlace, NoStretch
+from stretchleast.desk import Desk
+from stretchleast.errors import NoCommand, NoMany, NoNumber, NoPlace, NoStretch, NoText
+from stretchleast.growing import Growing
 from stretchleast.manieth import place_of, stretch_at
+from stretchleast.notes import read_row, show_row
+from stretchleast.papers import paper_of, shows
 from stretchleast.parts import Ready
 from stretchleast.reach import greatest_reaches, reaches
 from stretchleast.rows import greatest_of, is_row, least_of, least_place, spread_of
@@ -19,11 +23,18 @@ OF_A_STRETCH = (least_of, greatest_of, spread_of, least_place)
 READY = ("leasts", "greatests", "spreads", "least", "greatest", "first_least")
 WITH_PLACES = (*OF_A_STRETCH, place_of, worth_of,
                *(lambda row, begin, end, name=name: getattr(Ready(row), name)(begin, end) for name in READY))
-LISTS = (reaches, greatest_reaches, by_leasts, tree_of)
-OF_A_ROW = (is_row, *LISTS, sum_of_leasts, sum_of_greatests, sum_of_spreads, Ready, most_worth)
+LISTS = (reaches, greatest_reaches, by_leasts, tree_of, paper_of)
+OF_A_ROW = (is_row, *LISTS, sum_of_leasts, sum_of_greatests, sum_of_spreads, Ready, most_worth, show_row)
 WITH_A_NUMBER = (many_with, many_from, many_to, many_within, longest_within)
 # Told of a row and of anything.
-WITH_A_THING = (is_tree_of,)
+WITH_A_THING = (is_tree_of, shows)
+
+
+def refusals():
+    """What refuses anything that is no text and no whole number, with its refusal: made anew each time."""
+    growing, desk = Growing(), Desk()
+    return ((growing.put, NoNumber), (growing.take, NoMany), (desk.say, NoCommand), (read_row, NoText),
+            (lambda thing: stretch_at([3, 1, 2], thing), NoPlace))
 
 
 class Kept(list):
@@ -63,13 +74,16 @@ class HandedIn(unittest.TestCase):
 
     def test_told_things_that_are_handed_on_are_as_before(self):
         for row in [*short_rows(), *long_rows().values()]:
-            tree = tree_of(row)
-            before = list(tree)
-            is_tree_of(row, tree)
-            is_tree_of([*row, 1], tree)
+            tree, paper = tree_of(row), paper_of(row)
+            before = list(tree), list(paper)
+            for tell in WITH_A_THING:
+                for thing in (tree, paper):
+                    tell(row, thing)
+                    tell([*row, 1], thing)
+                    tell(row[::-1], thing)
             if row:
                 lowest_above(tree, 0, len(row) - 1)
-            self.assertEqual(tree, before)
+            self.assertEqual((tree, paper), before)
 
     def test_other_things_are_as_before(self):
         things = ([1, True], [[1], 2], {"a": [1]}, [], (1, [2]))
@@ -79,8 +93,9 @@ class HandedIn(unittest.TestCase):
             for tell in WITH_PLACES:
                 with self.assertRaises(NoStretch):
                     tell([3, 1, 2], thing, thing)
-            with self.assertRaises(NoPlace):
-                stretch_at([3, 1, 2], thing)
+            for deed, error in refusals():
+                with self.assertRaises(error):
+                    deed(thing)
             for tell in WITH_A_THING:
                 tell([3, 1], thing)
             self.assertEqual(thing, copy)
@@ -93,11 +108,13 @@ class HandedIn(unittest.TestCase):
             for tell in WITH_PLACES:
                 with self.assertRaises(NoStretch):
                     tell([1, 2], deep, deep)
-            with self.assertRaises(NoPlace):
-                stretch_at([1, 2], deep)
+            for deed, error in refusals():
+                with self.assertRaises(error):
+                    deed(deep)
             for tell in WITH_A_THING:
                 tell([1], deep)
                 tell([1, 2], [deep, deep])
+                tell([1, 2], [(0, deep), (deep, 2)])
             after = layers(deep)
             self.assertEqual(len(after), len(before))
             self.assertTrue(all(one is other for one, other in zip(before, after)))
@@ -117,13 +134,24 @@ class HandedIn(unittest.TestCase):
             del told
 
     def test_no_thing_is_kept(self):
-        calls = [lambda thing, tell=tell: tell([3, 1, 2], thing) for tell in WITH_A_THING]
-        calls.append(lambda tree: lowest_above(tree, 0, 2))
-        for call in calls:
-            thing = Kept([1, None, 1])
+        row = [3, 1, 2]
+        calls = [(tell, told) for tell in WITH_A_THING for told in (tree_of(row), paper_of(row))]
+        calls.append((lambda row, tree: lowest_above(tree, 0, 2), tree_of(row)))
+        for tell, told in calls:
+            thing = Kept(told)
             watched = weakref.ref(thing)
-            call(thing)
+            tell(row, thing)
             del thing
+            self.assertIsNone(watched())
+
+    def test_nothing_refused_is_kept(self):
+        for deed, error in refusals():
+            thing = Kept([3, 1, 2])
+            watched = weakref.ref(thing)
+            with self.assertRaises(error):
+                deed(thing)
+            del thing
+            # What refused it, a growing row or a desk too, was alive until here.
             self.assertIsNone(watched())
 
 
@@ -150,13 +178,14 @@ class Told(unittest.TestCase):
 
     def test_a_row_that_is_changed_behind_the_call(self):
         row = [3, 1, 2]
-        told, greatest_told, counted, tree = [tell(row) for tell in LISTS]
+        told, greatest_told, counted, tree, paper = [tell(row) for tell in LISTS]
         row[0] = 0
         row.append(-9)
         self.assertEqual(told, [(0, 1), (0, 3), (2, 3)])
         self.assertEqual(greatest_told, [(0, 3), (1, 2), (1, 3)])
         self.assertEqual(counted, [(1, 4), (2, 1), (3, 1)])
         self.assertEqual(tree, [1, None, 1])
+        self.assertEqual(paper, told)
         # What is asked anew is told of the row as it now is.
         self.assertEqual(reaches(row), [(0, 3), (1, 3), (2, 3), (0, 4)])
         self.assertEqual(greatest_reaches(row), [(0, 1), (0, 2), (0, 4), (3, 4)])
@@ -167,8 +196,23 @@ class Told(unittest.TestCase):
         self.assertEqual([stretch_at(row, 0), place_of(row, 0, 1)], [(-9, 0, 4), 4])
         self.assertEqual([tree_of(row), is_tree_of(row, [1, None, 1])], [[3, 0, 1, None], False])
         self.assertEqual([most_worth(row), worth_of(row, 0, 4)], [(2, 1, 3), -36])
+        self.assertEqual([shows(row, paper), shows(row, paper_of(row)), show_row(row)], [None, -32, "0 1 2 -9"])
         self.assertIs(is_row(row), True)
         row.append(True)
         self.assertIs(is_row(row), False)
         # A copy that was told of earlier is told of as it was.
         self.assertEqual(reaches([3, 1, 2]), told)
+
+    def test_lists_that_are_told_of_texts_and_growing_rows(self):
+        growing = Growing()
+        growing.put(3)
+        growing.put(1)
+        for tell in (growing.numbers, lambda: read_row("3 1"), Growing().numbers, lambda: read_row("-")):
+            told = tell()
+            before = list(told)
+            told.append("more")
+            self.assertEqual(tell(), before)
+            told.clear()
+            self.assertEqual(tell(), before)
+            self.assertIsNot(tell(), tell())
+        self.assertEqual(growing.many(), 2)

@@ -35,6 +35,8 @@ COUNTS = {"len": (1, 1), "range": (1, 3), "enumerate": (1, 2), "zip": (1, 9), "m
 METHODS = set("append clear copy count endswith extend find get index insert isalnum isalpha isdigit islower isspace "
               "isupper items join keys ljust lower lstrip partition pop remove replace reverse rfind rjust rpartition "
               "rsplit rstrip setdefault split splitlines startswith strip update upper values zfill bit_length".split())
+# Of the additional methods those that the package may need; own methods are not called like these.
+ADDITIONAL_METHODS = {"isascii", "isdecimal", "removeprefix", "removesuffix"}
 MODIFIERS = set("append clear extend insert pop remove reverse setdefault update".split())
 FREE_ATTRIBUTES = set("count index title find get join lower upper split strip copy add".split())
 NEVER_NAMES = set("register mro elements open input version_info with_traceback add_note format format_map".split())
@@ -50,7 +52,7 @@ STATEMENTS = (ast.FunctionDef, ast.ClassDef, ast.Return, ast.Assign, ast.AugAssi
               ast.Raise, ast.Try, ast.ImportFrom, ast.Expr, ast.Pass, ast.Break, ast.Continue, ast.Delete)
 EXPRESSIONS = (ast.BoolOp, ast.BinOp, ast.UnaryOp, ast.IfExp, ast.Dict, ast.List, ast.Tuple, ast.ListComp,
                ast.DictComp, ast.GeneratorExp, ast.Compare, ast.Call, ast.Constant, ast.Attribute, ast.Subscript,
-               ast.Slice, ast.Name, ast.JoinedStr, ast.FormattedValue)
+               ast.Slice, ast.Name, ast.JoinedStr, ast.FormattedValue, ast.Starred)
 PARTS = (ast.Module, ast.arguments, ast.arg, ast.alias, ast.keyword, ast.comprehension, ast.ExceptHandler,
          ast.expr_context, ast.boolop, ast.unaryop, ast.cmpop, ast.operator)
 
@@ -89,6 +91,8 @@ class Package:
                           if isinstance(node.parent, ast.Module)}
         self.methods = {node.name for source in self.sources for node in source.functions
                         if isinstance(node.parent, ast.ClassDef)}
+        self.tables = {name for source in self.sources for node in source.tree.body
+                       if isinstance(node, ast.Assign) and isinstance(node.value, ast.Dict) for name in bound_by(node)}
         self.attributes = {node.attr for source in self.sources for node in source.inside(ast.Attribute)
                            if isinstance(node.ctx, ast.Store)}
 
@@ -134,6 +138,14 @@ def is_plain(node):
 
 def is_number(node):
     return isinstance(node, ast.Constant) and isinstance(node.value, int) and not isinstance(node.value, bool)
+
+
+def is_table(node, functions):
+    """Whether an expression is a dict of written values to such, or to tuples and functions that are known by then."""
+    if not isinstance(node, ast.Dict):
+        return False
+    values = all(is_plain(value) or isinstance(value, ast.Name) and value.id in functions for value in node.values)
+    return values and all(key is not None and is_plain(key) for key in node.keys)
 
 
 def locals_of(function):
@@ -234,13 +246,40 @@ def check_module_level(source, package):
         ahead = ahead and (isinstance(node, ast.ImportFrom) or is_docstring(node))
         if isinstance(node, ast.ImportFrom) and not ahead:
             yield node.lineno, "L2 an import that does not stand at the top"
-        plain = isinstance(node, ast.Assign) and len(node.targets) == 1 and is_plain(node.value)
+        functions = {above.name for above in source.functions if above.end_lineno < node.lineno}
+        value = node.value if isinstance(node, ast.Assign) and len(node.targets) == 1 else None
+        plain = value is not None and (is_plain(value) or is_table(value, functions))
         if not (is_docstring(node) or plain or isinstance(node, (ast.ImportFrom, ast.FunctionDef, ast.ClassDef))):
             yield node.lineno, "L3 what does not stand at module level"
     names = source.defined + source.imported
     for name in sorted(set(names)):
         if names.count(name) > 1:
             yield 1, f"L15 {name} is bound twice"
+
+
+def check_tables(source, package):
+    """A table at module level is only read: an item of it, or whether it has a key."""
+    for node in source.inside(ast.Name):
+        if node.id in package.tables and isinstance(node.ctx, ast.Load):
+            above = node.parent
+            item = isinstance(above, ast.Subscript) and above.value == node and isinstance(above.ctx, ast.Load)
+            asked = isinstance(above, ast.Compare) and all(isinstance(sign, (ast.In, ast.NotIn)) for sign in above.ops)
+            if not item and not asked:
+                yield node.lineno, "L15 a table at module level that is not just read"
+
+
+def check_stars(source, package):
+    """A star stands at a name: in the targets of an assignment, or in a call of a local variable."""
+    for node in source.inside(ast.Starred):
+        above = node.parent
+        target = isinstance(node.ctx, ast.Store) and isinstance(above.parent, ast.Assign)
+        known = BUILTINS | set(package.functions) | set(package.classes)
+        passed = isinstance(above, ast.Call) and called_name(above) not in known | {None}
+        if not isinstance(node.value, ast.Name) or not (target or passed):
+            yield node.lineno, "L6 L7 a star that the checker does not know"
+        elif target and isinstance(above.parent.value, ast.Call):
+            if called_name(above.parent.value) in LAZY or called_method(above.parent.value) in LAZY_METHODS:
+                yield node.lineno, "L6 a star in the targets of what is iterated at once"
 
 
 def check_imports(source, package):
@@ -311,7 +350,7 @@ def check_attributes(source, package):
             yield node.lineno, "L18 an attribute that is not assigned through a local name"
         if stored and node.attr not in FREE_ATTRIBUTES and has_builtin_value(node.attr):
             yield node.lineno, f"L26 the attribute {node.attr}"
-        if called and node.attr not in package.methods | METHODS:
+        if called and node.attr not in package.methods | METHODS | ADDITIONAL_METHODS:
             yield node.lineno, f"L25 the method {node.attr}"
         if not called and node.attr not in package.attributes:
             yield node.lineno, f"L18 L25 the attribute {node.attr}, which no class assigns"
@@ -391,7 +430,7 @@ def check_call_arguments(source, package):
             yield node.lineno, f"L22 {name} takes another number of arguments"
         if name in BUILTINS and not keywords <= KEYWORDS.get(name, set()):
             yield node.lineno, f"L22 {name} takes no such keyword"
-        if called_method(node) in METHODS - package.methods and keywords:
+        if called_method(node) in (METHODS | ADDITIONAL_METHODS) - package.methods and keywords:
             yield node.lineno, "L25 a keyword with a method of a builtin value"
         if called_method(node) in LAZY_METHODS and given:
             yield node.lineno, "L25 keys, values and items take no arguments"
@@ -498,10 +537,10 @@ def check_error_calls(source, package):
                 yield node.lineno, "L22 an error that is passed anything but strings by position"
 
 
-CHECKS = (check_characters, check_strings, check_warnings, check_nodes, check_signs, check_module_level, check_imports,
-          check_functions, check_classes, check_attributes, check_given_names, check_local_names,
-          check_builtins_are_called, check_isinstance, check_call_arguments, check_iterated_at_once, check_loops,
-          check_errors, check_error_calls)
+CHECKS = (check_characters, check_strings, check_warnings, check_nodes, check_signs, check_module_level, check_tables,
+          check_stars, check_imports, check_functions, check_classes, check_attributes, check_given_names,
+          check_local_names, check_builtins_are_called, check_isinstance, check_call_arguments, check_iterated_at_once,
+          check_loops, check_errors, check_error_calls)
 
 
 def faults_of_file_names(names):
@@ -581,6 +620,18 @@ def told(rows, least=-1):
 
 def twice(rows):
     return told(rows, least=2), told(rows), sorted(rows, key=len, reverse=True), 2 ** 5
+
+
+ACTIONS = {"told": told, "twice": twice}
+WIDTHS = {"told": (2, True), "twice": ()}
+
+
+def done(words):
+    first, *others = words.removeprefix("do ").split(" ")
+    if first not in ACTIONS or len(others) != len(WIDTHS[first]):
+        raise Wrong("no words")
+    action = ACTIONS[first]
+    return action(words, *others)
 ''',
 }
 
@@ -597,6 +648,10 @@ BAD = (
     ("L3", "LIMIT = len('ab')\n"),
     ("L3", "if True:\n    LIMIT = 3\n"),
     ("L3", "KEPT = []\n"),
+    ("L3", "KEPT = {'a': [1]}\n"),
+    ("L3", "KEPT = {'a': {'b': 1}}\n"),
+    ("L3", "KEPT = {'a': f}\n\n\ndef f(x):\n    return x\n"),
+    ("L3", "def f(x):\n    return x\n\n\nKEPT = {'a': f(3)}\n"),
     ("L4", "def f(x, /):\n    return x\n"),
     ("L4", "def f(x=[]):\n    return x\n"),
     ("L4", "def f(*xs):\n    return xs\n"),
@@ -606,6 +661,8 @@ BAD = (
     ("L5", "class Box:\n    def __hash__(self):\n        return 1\n"),
     ("L5", "class Box:\n    def put():\n        return 1\n"),
     ("L6", "def f():\n    global KEPT\n    KEPT = 3\n"),
+    ("L6", "def f(x):\n    a, *b = x.items()\n    return a, b\n"),
+    ("L6", "def f(x):\n    a, *b.c = x\n    return a\n"),
     ("L6", "async def f():\n    return 1\n"),
     ("L6", "def f(x):\n    x + 1\n"),
     ("L6", "def f(x):\n    try:\n        return x\n    finally:\n        pass\n"),
@@ -613,6 +670,9 @@ BAD = (
     ("L7", "def f(x):\n    return x + 1.5\n"),
     ("L7", "def f(x):\n    return (n for n in x)\n"),
     ("L7", "def f(x):\n    return lambda: x\n"),
+    ("L7", "def f(x):\n    return sum(*x)\n"),
+    ("L7", "def f(x, g):\n    return g(*x.split(' '))\n"),
+    ("L7", "KEPT = {'a': None}\n\n\ndef f(x):\n    return KEPT['a'](x)\n"),
     ("L7", "def f(x):\n    return f'{x!r}'\n"),
     ("L7", "def f(x):\n    return f'{x:>5}'\n"),
     ("L7", "def f():\n    return b'a'\n"),
@@ -632,6 +692,9 @@ BAD = (
     ("L14", "# caf\u00e9\n"),
     ("L14", "def f():\n\treturn 1\n"),
     ("L15", "LIMIT = 3\nLIMIT = 4\n"),
+    ("L15", "KEPT = {'a': 1}\n\n\ndef f(x):\n    KEPT['a'] = x\n"),
+    ("L15", "KEPT = {'a': 1}\n\n\ndef f(x):\n    KEPT.update(x)\n"),
+    ("L15", "KEPT = {'a': 1}\n\n\ndef f():\n    return KEPT\n"),
     ("L15", "def f(min):\n    return min\n"),
     ("L15", "from stretchleast.errors import Wrong\n\n\ndef f(Wrong):\n    return Wrong\n"),
     ("L17", "# the type of a thing\n"),
@@ -663,6 +726,7 @@ BAD = (
     ("L23", "def f(x):\n    for at, n in enumerate(x):\n        x[at] = n\n"),
     ("L25", "def f(x):\n    x.sort()\n    return x\n"),
     ("L25", "def f(x):\n    return x.bit_count()\n"),
+    ("L25", "def f(x):\n    return x.removeprefix(prefix='a')\n"),
     ("L26", "class Box:\n    def decode(self):\n        return 1\n"),
     ("L26", "class Box:\n    def __init__(self):\n        self.items = []\n"),
     ("L27", "def f(n):\n    return 2 ** n\n"),

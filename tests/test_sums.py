@@ -4,27 +4,19 @@ import inspect
 import unittest
 
 from stretchleast.sums import sum_of_greatests, sum_of_leasts, sum_of_spreads
-from tests.helper import chance_row, long_rows, searched, short_rows
+from tests.helper import ChecksRows, walked_totals
 
 TELLERS = (sum_of_leasts, sum_of_greatests, sum_of_spreads)
 
 
-def walked(row):
-    leasts = greatests = spreads = 0
-    for least, greatest, _, _ in searched(row).values():
-        leasts += least
-        greatests += greatest
-        spreads += greatest - least
-    return [leasts, greatests, spreads]
-
-
-class Sums(unittest.TestCase):
+class Sums(ChecksRows, unittest.TestCase):
     def told(self, row):
         return [tell(row) for tell in TELLERS]
 
     def check(self, row):
         told = self.told(row)
-        self.assertEqual(told, walked(row), row)
+        leasts, greatests, _, _ = walked_totals(row)
+        self.assertEqual(told, [leasts, greatests, greatests - leasts], row)
         self.assertEqual([type(number) for number in told], [int, int, int])
 
     def test_arguments_are_named_as_in_the_document(self):
@@ -53,22 +45,3 @@ class Sums(unittest.TestCase):
         self.assertEqual(self.told([far, -far]), [-far, far, 2 * far])
         self.assertEqual(self.told([far] * 300), [45150 * far, 45150 * far, 0])
         self.check([far, -far] * 150)
-
-    def test_short_rows_by_a_walk(self):
-        for row in short_rows():
-            self.check(row)
-
-    def test_rows_of_every_length_by_a_walk(self):
-        for many in range(0, 301, 12):
-            for reach in (1, 20, 10 ** 12):
-                self.check(chance_row(many + reach, many, -reach, reach))
-
-    def test_rows_of_300_by_a_walk(self):
-        for name, row in long_rows().items():
-            with self.subTest(name):
-                self.check(row)
-
-    def test_somewhat_beyond_the_limits(self):
-        self.check(chance_row(5, 700, -10 ** 15, 10 ** 15))
-        self.check(list(range(700)))
-        self.check(list(range(700, 0, -1)))

@@ -4,7 +4,7 @@ import inspect
 import unittest
 
 from stretchleast.trees import is_tree_of, lowest_above, tree_of
-from tests.helper import chance_row, long_rows, no_whole_numbers, searched, short_rows
+from tests.helper import ChecksRows, chance_row, long_rows, no_whole_numbers, searched, short_rows
 
 
 def tree_by_words(row):
@@ -27,7 +27,7 @@ class Interface(unittest.TestCase):
         self.assertEqual(list(inspect.signature(lowest_above).parameters), ["tree", "one", "other"])
 
 
-class Trees(unittest.TestCase):
+class Trees(ChecksRows, unittest.TestCase):
     def check(self, row):
         told = tree_of(row)
         self.assertEqual(told, tree_by_words(row), row)
@@ -57,22 +57,7 @@ class Trees(unittest.TestCase):
         self.assertEqual(tree_of(list(range(-150, 150))), [None, *range(299)])
         self.assertEqual(tree_of(list(range(150, -150, -1))), [*range(1, 300), None])
 
-    def test_short_rows_by_the_words(self):
-        for row in short_rows():
-            self.check(row)
-
-    def test_rows_of_every_length_by_the_words(self):
-        for many in range(0, 301, 7):
-            for reach in (1, 20, 10 ** 12):
-                self.check(chance_row(many + reach, many, -reach, reach))
-
-    def test_rows_of_300_by_the_words(self):
-        for name, row in long_rows().items():
-            with self.subTest(name):
-                self.check(row)
-
-    def test_somewhat_beyond_the_limits(self):
-        self.check(chance_row(5, 700, -10 ** 15, 10 ** 15))
+    def test_trees_of_a_thousand_layers(self):
         self.check(list(range(1500)))
         self.check(list(range(1500, 0, -1)))
 

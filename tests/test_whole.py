@@ -1,9 +1,13 @@
-"""Promise 2: sums, parts, counts, places, small spreads, worths and trees tell the same of a row."""
+"""Promise 2: sums, parts, counts, places, spreads, worths, trees, papers, growing rows and the desk tell the same."""
 
 import unittest
 
 from stretchleast.counted import by_leasts, many_from, many_to, many_with
+from stretchleast.desk import Desk
+from stretchleast.growing import Growing
 from stretchleast.manieth import place_of, stretch_at
+from stretchleast.notes import read_row, show_row
+from stretchleast.papers import paper_of, shows
 from stretchleast.parts import Ready
 from stretchleast.reach import reaches
 from stretchleast.rows import greatest_of, least_of, least_place, spread_of
@@ -12,6 +16,10 @@ from stretchleast.sums import sum_of_greatests, sum_of_leasts, sum_of_spreads
 from stretchleast.trees import lowest_above, tree_of
 from stretchleast.worth import most_worth, worth_of
 from tests.helper import long_rows, short_rows, stretches
+
+
+def parted(*numbers):
+    return " ".join([str(number) for number in numbers])
 
 
 class Whole(unittest.TestCase):
@@ -132,3 +140,59 @@ class Whole(unittest.TestCase):
                     ends[above] = max(ends[above], place + 1)
                     above = tree[above]
             self.assertEqual(list(zip(begins, ends)), reaches(row))
+
+    def test_papers_show_the_sum_of_leasts(self):
+        for row in self.rows():
+            self.assertEqual(paper_of(row), reaches(row))
+            self.assertEqual(shows(row, paper_of(row)), sum_of_leasts(row))
+            self.assertEqual(shows(row, reaches(row)), sum(least * many for least, many in by_leasts(row)))
+
+    def test_growing_rows_tell_the_sums(self):
+        for row in self.rows():
+            growing = Growing()
+            for number in [*row, -5, 5]:
+                growing.put(number)
+            growing.take(2)
+            self.assertEqual(growing.numbers(), row)
+            self.assertEqual(growing.many(), len(row))
+            self.assertEqual(growing.leasts(), sum_of_leasts(row))
+            self.assertEqual(growing.greatests(), sum_of_greatests(row))
+            self.assertEqual(growing.spreads(), sum_of_spreads(row))
+            self.assertEqual(growing.last_leasts(), sum_of_leasts(row) - sum_of_leasts(row[:-1]))
+            self.assertEqual(growing.last_greatests(), sum_of_greatests(row) - sum_of_greatests(row[:-1]))
+            self.assertEqual(growing.last_spreads(), sum_of_spreads(row) - sum_of_spreads(row[:-1]))
+
+    def test_the_last_sums_of_a_row_that_grows_add_up(self):
+        for row in self.rows():
+            growing = Growing()
+            leasts = greatests = spreads = 0
+            for number in row[:40]:
+                growing.put(number)
+                leasts += growing.last_leasts()
+                greatests += growing.last_greatests()
+                spreads += growing.last_spreads()
+                sums = [growing.leasts(), growing.greatests(), growing.spreads()]
+                self.assertEqual(sums, [leasts, greatests, spreads])
+
+    def test_the_desk_tells_all_of_a_row(self):
+        for row in self.rows():
+            desk = Desk()
+            desk.say(f"row {show_row(row)}")
+            self.assertEqual(read_row(desk.say("show")), row)
+            sums = [sum_of_leasts(row), sum_of_greatests(row), sum_of_spreads(row)]
+            ahead = [sum_of_leasts(row[:-1]), sum_of_greatests(row[:-1]), sum_of_spreads(row[:-1])]
+            self.assertEqual(desk.say("sums"), parted(*sums))
+            self.assertEqual(desk.say("last"), parted(*[one - other for one, other in zip(sums, ahead)]))
+            self.assertEqual(desk.say("within 2"), parted(many_within(row, 2)))
+            self.assertEqual(desk.say("worth"), parted(*most_worth(row)) if row else "none")
+            if row:
+                self.assertEqual(desk.say(f"part 0 {len(row)}"), parted(*sums))
+                self.check_a_part_at_the_desk(desk, row, len(row) // 3, len(row))
+
+    def check_a_part_at_the_desk(self, desk, row, begin, end):
+        ready, tree = Ready(row), tree_of(row)
+        self.assertEqual(desk.say(f"part {begin} {end}"), parted(ready.leasts(begin, end), ready.greatests(begin, end),
+                                                                 ready.spreads(begin, end)))
+        self.assertEqual(desk.say(f"least {begin} {end}"),
+                         parted(least_of(row, begin, end), lowest_above(tree, begin, end - 1)))
+        self.assertEqual(desk.say(f"at {place_of(row, begin, end)}"), parted(least_of(row, begin, end), begin, end))
